@@ -1,4 +1,4 @@
-// Package copies makes parts of programs anew, so that what a layer answers shares no memory with what it was handed in.
+// Package copies makes parts of programs, and values, anew, so that what a layer answers shares no memory with what it was handed in.
 package copies
 
 import (
@@ -14,20 +14,29 @@ func Rule(r api.Rule) api.Rule {
 	return r
 }
 
+// Binds is of variables' values, right ones or not.
+func Binds(l []api.Bind) []api.Bind { return each(l, bind) }
+
+// Value is of any value, whatever its Kind is: a wrong one may have a list beside what it is.
+func Value(v api.Value) api.Value {
+	v.List = each(v.List, Value)
+	return v
+}
+
+func bind(b api.Bind) api.Bind {
+	b.Value = Value(b.Value)
+	return b
+}
+
 func literal(l api.Literal) api.Literal {
 	l.Args = each(l.Args, term)
 	return l
 }
 
 func term(t api.Term) api.Term {
-	t.Value = value(t.Value)
+	t.Value = Value(t.Value)
 	t.Args = each(t.Args, term)
 	return t
-}
-
-func value(v api.Value) api.Value {
-	v.List = each(v.List, value)
-	return v
 }
 
 // each is a list of copies, in memory of its own.

@@ -46,6 +46,17 @@ func spoilValues(l []api.Value) {
 	}
 }
 
+// binds are variables' values, one of them not right.
+func binds(t *testing.T) []api.Bind {
+	t.Helper()
+	var l []api.Value
+	for _, x := range made(t).Body[0].Args {
+		l = append(l, x.Value)
+	}
+	wrong := api.Value{Kind: api.Int, Int: 1, Text: "a", List: l}
+	return []api.Bind{{Name: "X", Value: api.Value{Kind: api.List, List: l}}, {Name: "Y", Value: wrong}, {Name: "X", Value: wrong}}
+}
+
 func TestRuleIsTheSame(t *testing.T) {
 	for _, r := range []api.Rule{made(t), {}, {Label: "r", Head: "p", Args: []api.Term{}, Agg: "min", At: 3, Body: []api.Literal{{}, {Args: []api.Term{}}}}} {
 		if got := Rule(r); !reflect.DeepEqual(got, r) {
@@ -76,5 +87,39 @@ func TestRuleOfSharedParts(t *testing.T) {
 	spoilTerms(got.Args)
 	if !reflect.DeepEqual(got.Body, r.Body) {
 		t.Error("parts of a copy share memory:", got.Body)
+	}
+}
+
+func TestBindsAndValuesAreTheSame(t *testing.T) {
+	for _, l := range [][]api.Bind{binds(t), nil, {}, {{}}, {{Name: "X", Value: api.Value{List: []api.Value{}}}}} {
+		if got := Binds(l); !reflect.DeepEqual(got, l) {
+			t.Errorf("%v, not %v", got, l)
+		}
+		for _, b := range l {
+			if got := Value(b.Value); !reflect.DeepEqual(got, b.Value) {
+				t.Errorf("%v, not %v", got, b.Value)
+			}
+		}
+	}
+}
+
+// TestBindsAndValuesShareNothing: not even with one another, where lists are one in what they are made of.
+func TestBindsAndValuesShareNothing(t *testing.T) {
+	l, want := binds(t), binds(t)
+	values := []api.Value{Value(l[0].Value), Value(l[1].Value)}
+	got := Binds(l)
+	spoilValues(got[1].Value.List)
+	spoilValues(values[1].List)
+	if !reflect.DeepEqual(l, want) {
+		t.Error("what was handed in is changed:", l)
+	}
+	if !reflect.DeepEqual(got[0], want[0]) || !reflect.DeepEqual(got[2], want[2]) || !reflect.DeepEqual(values[0], want[0].Value) {
+		t.Error("parts of a copy share memory:", got, values)
+	}
+	got = Binds(l)
+	spoilValues(l[0].Value.List)
+	l[0] = api.Bind{}
+	if !reflect.DeepEqual(got, want) || !reflect.DeepEqual(values[0], want[0].Value) {
+		t.Error("what was answered is changed:", got, values)
 	}
 }
