@@ -17,6 +17,9 @@ func Rule(r api.Rule) api.Rule {
 // Binds is of variables' values, right ones or not.
 func Binds(l []api.Bind) []api.Bind { return each(l, bind) }
 
+// Rows are of rows whose values need not be right, either.
+func Rows(l []api.Row) []api.Row { return each(l, row) }
+
 // Value is of any value, whatever its Kind is: a wrong one may have a list beside what it is.
 func Value(v api.Value) api.Value {
 	v.List = each(v.List, Value)
@@ -26,6 +29,11 @@ func Value(v api.Value) api.Value {
 func bind(b api.Bind) api.Bind {
 	b.Value = Value(b.Value)
 	return b
+}
+
+func row(r api.Row) api.Row {
+	r.Args = each(r.Args, Value)
+	return r
 }
 
 func literal(l api.Literal) api.Literal {

@@ -123,3 +123,37 @@ func TestBindsAndValuesShareNothing(t *testing.T) {
 		t.Error("what was answered is changed:", got, values)
 	}
 }
+
+func rows(t *testing.T) []api.Row {
+	t.Helper()
+	l := binds(t)
+	args := []api.Value{l[0].Value, l[1].Value}
+	return []api.Row{{Name: "p", Args: args, Stamp: 3}, {Name: "q", Args: args[1:], Stamp: -1}, {Name: "p", Args: args, Stamp: api.Forever}}
+}
+
+func TestRowsAreTheSame(t *testing.T) {
+	for _, l := range [][]api.Row{rows(t), nil, {}, {{}}, {{Stamp: 1}, {Name: "p", Args: []api.Value{}}}} {
+		if got := Rows(l); !reflect.DeepEqual(got, l) {
+			t.Errorf("%v, not %v", got, l)
+		}
+	}
+}
+
+// TestRowsShareNothing: not even with one another, where lists are one in what they are made of.
+func TestRowsShareNothing(t *testing.T) {
+	l, want := rows(t), rows(t)
+	got := Rows(l)
+	spoilValues(got[1].Args)
+	if !reflect.DeepEqual(l, want) {
+		t.Error("what was handed in is changed:", l)
+	}
+	if !reflect.DeepEqual(got[0], want[0]) || !reflect.DeepEqual(got[2], want[2]) {
+		t.Error("parts of a copy share memory:", got)
+	}
+	got = Rows(l)
+	spoilValues(l[0].Args)
+	l[0] = api.Row{}
+	if !reflect.DeepEqual(got, want) {
+		t.Error("what was answered is changed:", got)
+	}
+}
